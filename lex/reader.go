@@ -5,6 +5,7 @@ import (
 
 	"tabula/api"
 	"tabula/dec"
+	"tabula/letters"
 )
 
 // faults are the errors as formulas have them.
@@ -22,7 +23,7 @@ type reader struct {
 func (r *reader) begun() func() (api.Tok, bool) {
 	c := first(r.rest)
 	switch {
-	case isDigit(c):
+	case letters.IsDigit(c):
 		return r.number
 	case c == '"':
 		return r.text
@@ -37,10 +38,10 @@ func (r *reader) begun() func() (api.Tok, bool) {
 }
 
 func (r *reader) number() (api.Tok, bool) {
-	s := r.take(isDigit)
-	if part, found := strings.CutPrefix(r.rest, "."); found && isDigit(first(part)) {
+	s := r.take(letters.IsDigit)
+	if part, found := strings.CutPrefix(r.rest, "."); found && letters.IsDigit(first(part)) {
 		r.rest = part
-		s += "." + r.take(isDigit)
+		s += "." + r.take(letters.IsDigit)
 	}
 	_, err := dec.Read(s)
 	return api.Tok{Kind: api.TkNum, S: s}, err == api.OK
@@ -52,11 +53,11 @@ func (r *reader) text() (api.Tok, bool) {
 		return api.Tok{}, false
 	}
 	s := strings.ReplaceAll(whole[1:len(whole)-1], `""`, `"`)
-	return api.Tok{Kind: api.TkText, S: s}, isText(s)
+	return api.Tok{Kind: api.TkText, S: s}, letters.IsText(s)
 }
 
 func (r *reader) fault() (api.Tok, bool) {
-	low := great(r.rest)
+	low := letters.Great(r.rest)
 	for _, s := range faults {
 		if !strings.HasPrefix(low, s) {
 			continue
@@ -96,7 +97,7 @@ func (r *reader) word() (api.Tok, bool) {
 	case isRef(word):
 		return api.Tok{Kind: api.TkRef, S: word}, true
 	case isTruth(word):
-		return api.Tok{Kind: api.TkTruth, S: great(word)}, true
+		return api.Tok{Kind: api.TkTruth, S: letters.Great(word)}, true
 	}
 	return api.Tok{Kind: api.TkName, S: word}, IsName(word)
 }
@@ -122,7 +123,7 @@ func (r *reader) behind(sheet string) (api.Tok, bool) {
 // column is that of a table, whose bracket is ahead.
 func (r *reader) column(table string) (api.Tok, bool) {
 	name, rest, found := strings.Cut(r.rest[1:], "]")
-	if !found || name == "" || len(name) > api.MaxName || strings.Contains(name, "[") || !isText(name) {
+	if !found || name == "" || len(name) > api.MaxName || strings.Contains(name, "[") || !letters.IsText(name) {
 		return api.Tok{}, false
 	}
 	r.rest = rest

@@ -1,6 +1,10 @@
 package lex
 
-import "unicode/utf8"
+import (
+	"unicode/utf8"
+
+	"tabula/letters"
+)
 
 // first is the first sign of s; none that means anything, if there is none.
 func first(s string) rune {
@@ -14,16 +18,8 @@ func isBlank(c rune) bool {
 	return c == ' '
 }
 
-func isDigit(c rune) bool {
-	return c >= '0' && c <= '9'
-}
-
-func isLetter(c rune) bool {
-	return c >= 'A' && c <= 'Z' || c >= 'a' && c <= 'z'
-}
-
 func isCell(c rune) bool {
-	return isLetter(c) || isDigit(c) || c == '$'
+	return letters.IsLetter(c) || letters.IsDigit(c) || c == '$'
 }
 
 func isWord(c rune) bool {
@@ -31,7 +27,7 @@ func isWord(c rune) bool {
 }
 
 func isFirst(c rune) bool {
-	return isWord(c) && !isDigit(c) && c != '.'
+	return isWord(c) && !letters.IsDigit(c) && c != '.'
 }
 
 func isSigns(s string) bool {
@@ -42,25 +38,4 @@ func isSigns(s string) bool {
 		return true
 	}
 	return false
-}
-
-// isText holds of a text of any length.
-func isText(s string) bool {
-	for _, c := range s {
-		if c < ' ' || c == 0x7f {
-			return false
-		}
-	}
-	return utf8.ValidString(s)
-}
-
-// great has great letters of ASCII in place of small ones, byte by byte.
-func great(s string) string {
-	b := []byte(s)
-	for i, c := range b {
-		if c >= 'a' && c <= 'z' {
-			b[i] = c - 'a' + 'A'
-		}
-	}
-	return string(b)
 }

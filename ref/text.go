@@ -3,9 +3,9 @@ package ref
 import (
 	"strconv"
 	"strings"
-	"unicode/utf8"
 
 	"tabula/api"
+	"tabula/letters"
 )
 
 // torn is how a reference is written whose cell is gone.
@@ -53,14 +53,15 @@ func Read(s string) (api.Ref, api.Errno) {
 		return found
 	}
 	take := func(is func(rune) bool) string {
-		part := rest[:lead(rest, is)]
-		rest = rest[len(part):]
+		behind := strings.TrimLeftFunc(rest, is)
+		part := rest[:len(rest)-len(behind)]
+		rest = behind
 		return part
 	}
 	r.FixCol = fixed()
-	column, err := ReadColumn(take(isLetter))
+	column, err := ReadColumn(take(letters.IsLetter))
 	r.FixRow = fixed()
-	row, found := readRow(take(isDigit))
+	row, found := readRow(take(letters.IsDigit))
 	if err != api.OK || !found || rest != "" {
 		return api.Ref{}, api.ErrRef
 	}
@@ -113,16 +114,6 @@ func readRow(digits string) (int, bool) {
 	return n - 1, true
 }
 
-// lead is how many bytes ahead in s are of signs that are so.
-func lead(s string, is func(rune) bool) int {
-	for i, c := range s {
-		if !is(c) {
-			return i
-		}
-	}
-	return len(s)
-}
-
 func written(name string) string {
 	if isPlain(name) {
 		return name
@@ -133,8 +124,8 @@ func written(name string) string {
 func isPlain(name string) bool {
 	for i, c := range name {
 		switch {
-		case isLetter(c), c == '_':
-		case isDigit(c) && i > 0:
+		case letters.IsLetter(c), c == '_':
+		case letters.IsDigit(c) && i > 0:
 		default:
 			return false
 		}
@@ -143,28 +134,5 @@ func isPlain(name string) bool {
 }
 
 func isSheet(name string) bool {
-	if name == "" || len(name) > api.MaxName || !utf8.ValidString(name) {
-		return false
-	}
-	return lead(name, isShown) == len(name)
-}
-
-func isShown(c rune) bool {
-	return c >= ' ' && c != 0x7f
-}
-
-func isLetter(c rune) bool {
-	return great(c) >= 'A' && great(c) <= 'Z'
-}
-
-func isDigit(c rune) bool {
-	return c >= '0' && c <= '9'
-}
-
-// great is for letters of ASCII alone: others have great ones that are letters of ASCII.
-func great(c rune) rune {
-	if c >= 'a' && c <= 'z' {
-		return c - 'a' + 'A'
-	}
-	return c
+	return name != "" && len(name) <= api.MaxName && letters.IsText(name)
 }

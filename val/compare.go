@@ -5,6 +5,7 @@ import (
 
 	"tabula/api"
 	"tabula/dec"
+	"tabula/letters"
 )
 
 // Compare is -1, 0 or 1, as a stands ahead of b, beside it or behind it; 0, if one is not right.
@@ -36,7 +37,7 @@ func order(a api.Val, b api.Val) int {
 
 func orderOfTexts(a string, b string) int {
 	for i := range min(len(a), len(b)) {
-		if c := cmp.Compare(small(a[i]), small(b[i])); c != 0 {
+		if c := cmp.Compare(letters.SmallByte(a[i]), letters.SmallByte(b[i])); c != 0 {
 			return c
 		}
 	}
@@ -60,20 +61,4 @@ func digit(b bool) int {
 		return 1
 	}
 	return 0
-}
-
-// small is for letters of ASCII alone, byte by byte.
-func small(c byte) byte {
-	if c >= 'A' && c <= 'Z' {
-		return c - 'A' + 'a'
-	}
-	return c
-}
-
-func folded(s string) string {
-	b := []byte(s)
-	for i, c := range b {
-		b[i] = small(c)
-	}
-	return string(b)
 }

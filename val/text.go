@@ -5,6 +5,7 @@ import (
 
 	"tabula/api"
 	"tabula/dec"
+	"tabula/letters"
 )
 
 // faults are the errors' texts by their numbers.
@@ -45,12 +46,12 @@ func Read(s string) (api.Val, api.Errno) {
 	if n, err := dec.Read(s); err == api.OK {
 		return number(n), api.OK
 	}
-	low := folded(s)
+	low := letters.Small(s)
 	if b, ok := readTruth(low); ok {
 		return truth(b), api.OK
 	}
 	for n, text := range faults {
-		if n >= api.VNull && low == folded(text) {
+		if n >= api.VNull && low == letters.Small(text) {
 			return fault(n), api.OK
 		}
 	}

@@ -3,6 +3,7 @@ package val
 import (
 	"tabula/api"
 	"tabula/dec"
+	"tabula/letters"
 )
 
 // ToNum is v as a number, or an error.
@@ -40,7 +41,7 @@ func ToBool(v api.Val) api.Val {
 		case api.Truth:
 			return truth(x.B)
 		case api.Text:
-			b, ok := readTruth(folded(x.S))
+			b, ok := readTruth(letters.Small(x.S))
 			if !ok {
 				return fault(api.VValue)
 			}
