@@ -1,7 +1,10 @@
 // Package grid does with arrays, one by one, what is done with plain values.
 package grid
 
-import "tabula/api"
+import (
+	"tabula/api"
+	"tabula/val"
+)
 
 // Each does something with some right values. If one of them is an array, it is done for each row and column, up to the greatest ones, with what stands there of each value, and an array is made of what comes of it: VValue in place of what is no plain value, and VNum alone, if that would be too large.
 func Each(l []api.Val, do func([]api.Val) api.Val) api.Val {
@@ -43,6 +46,15 @@ func at(v api.Val, row int, col int) api.Val {
 		return fault(api.VNA)
 	}
 	return v.L[row*v.Cols+col]
+}
+
+// Fresh is a right value that shares no memory with v.
+func Fresh(v api.Val) api.Val {
+	if v.Kind != api.Array {
+		return val.Get(v, 0, 0)
+	}
+	v, _ = val.Make(v.Rows, v.Cols, v.L)
+	return v
 }
 
 func plain(v api.Val) api.Val {

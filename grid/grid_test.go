@@ -73,3 +73,27 @@ func TestEach(t *testing.T) {
 		t.Errorf("Each that tells arrays: %+v", got)
 	}
 }
+
+// Fresh shares no list with what it is handed, be it an empty one with room.
+func TestFresh(t *testing.T) {
+	for i, make := range []func() api.Val{
+		func() api.Val { return num(1) },
+		func() api.Val { return api.Val{L: append([]api.Val{num(1)}[:0:1], many(0)...)} },
+		func() api.Val { return array(1, 2, num(1), num(2)) },
+		func() api.Val {
+			return api.Val{Kind: api.Func, S: "x", L: []api.Val{array(1, 1, num(1))}, Code: api.Code{Blocks: [][]api.Ins{{{Op: 1}}}, Params: []string{""}}}
+		},
+	} {
+		v := make()
+		got := grid.Fresh(v)
+		if !val.Same(got, v) || cap(got.L) > 0 && cap(v.L) > 0 && &got.L[:1][0] == &v.L[:1][0] {
+			t.Errorf("Fresh %d: %+v", i, got)
+		}
+		if v.Kind == api.Func {
+			v.L[0].L[0], v.Code.Blocks[0][0], v.Code.Params[0] = num(9), api.Ins{}, "x"
+			if !val.Same(got, make()) {
+				t.Errorf("Fresh %d shares memory", i)
+			}
+		}
+	}
+}

@@ -1,0 +1,157 @@
+package mach
+
+import (
+	"tabula/api"
+	"tabula/dec"
+	"tabula/grid"
+	"tabula/val"
+)
+
+func number(d api.Dec) api.Val {
+	return api.Val{Kind: api.Num, N: d}
+}
+
+func text(s string) api.Val {
+	return api.Val{Kind: api.Text, S: s}
+}
+
+func truth(b bool) api.Val {
+	return api.Val{Kind: api.Truth, B: b}
+}
+
+// decimal tells what dec tells, its errors as values.
+func decimal(d api.Dec, err api.Errno) api.Val {
+	switch err {
+	case api.OK:
+		return number(d)
+	case api.ErrZero:
+		return fault(api.VDiv)
+	}
+	return fault(api.VNum)
+}
+
+// operator does an operator with two values, of arrays one by one.
+func operator(op string, a api.Val, b api.Val) api.Val {
+	return grid.Each([]api.Val{a, b}, func(l []api.Val) api.Val {
+		a, b := valued(l[0]), valued(l[1])
+		switch {
+		case a.Kind == api.Fault:
+			return a
+		case b.Kind == api.Fault:
+			return b
+		}
+		switch op {
+		case "&":
+			return joined(a, b)
+		case "+", "-", "*", "/", "^":
+			return reckoned(op, val.ToNum(a), val.ToNum(b))
+		}
+		return truth(compared(op, val.Compare(beside(a, b), beside(b, a))))
+	})
+}
+
+// ahead does a sign ahead.
+func ahead(op string, v api.Val) api.Val {
+	return each(v, func(d api.Dec) api.Val {
+		if op == "-" {
+			return decimal(dec.Sub(api.Dec{}, d))
+		}
+		return number(d)
+	})
+}
+
+func percent(v api.Val) api.Val {
+	return each(v, func(d api.Dec) api.Val {
+		return decimal(dec.Mul(d, api.Dec{M: 1, E: -2}))
+	})
+}
+
+// each does with a number, of arrays one by one, what errors are left out of.
+func each(v api.Val, do func(api.Dec) api.Val) api.Val {
+	return grid.Each([]api.Val{v}, func(l []api.Val) api.Val {
+		n := val.ToNum(l[0])
+		if n.Kind == api.Fault {
+			return n
+		}
+		return do(n.N)
+	})
+}
+
+// valued is an error in place of a function.
+func valued(v api.Val) api.Val {
+	if v.Kind == api.Func {
+		return fault(api.VValue)
+	}
+	return v
+}
+
+func joined(a api.Val, b api.Val) api.Val {
+	s := val.ToText(a).S + val.ToText(b).S
+	if len(s) > api.MaxText {
+		return fault(api.VValue)
+	}
+	return text(s)
+}
+
+func reckoned(op string, a api.Val, b api.Val) api.Val {
+	switch {
+	case a.Kind == api.Fault:
+		return a
+	case b.Kind == api.Fault:
+		return b
+	}
+	switch op {
+	case "+":
+		return decimal(dec.Add(a.N, b.N))
+	case "-":
+		return decimal(dec.Sub(a.N, b.N))
+	case "*":
+		return decimal(dec.Mul(a.N, b.N))
+	case "/":
+		return decimal(dec.Div(a.N, b.N))
+	}
+	return power(a.N, b.N)
+}
+
+// power takes whole numbers alone; dec itself refuses those that are too great.
+func power(a api.Dec, b api.Dec) api.Val {
+	n, err := dec.Floor(b)
+	if err != api.OK {
+		return fault(api.VNum)
+	}
+	if whole, err := dec.Of(n); err != api.OK || whole != b {
+		return fault(api.VNum)
+	}
+	return decimal(dec.Power(a, n))
+}
+
+// beside is what an empty value counts as beside another one.
+func beside(v api.Val, other api.Val) api.Val {
+	if v.Kind != api.Empty {
+		return v
+	}
+	return api.Val{Kind: other.Kind}
+}
+
+// compared tells by how two values stand: -1 ahead, 0 beside, 1 behind.
+func compared(op string, stand int) bool {
+	switch op {
+	case "<=":
+		if stand == 0 {
+			return true
+		}
+		fallthrough
+	case "<":
+		return stand < 0
+	case ">=":
+		if stand == 0 {
+			return true
+		}
+		fallthrough
+	case ">":
+		return stand > 0
+	case "<>":
+		return stand != 0
+	}
+	return stand == 0
+}
