@@ -5,11 +5,12 @@ import (
 
 	"tabula/api"
 	"tabula/dec"
+	"tabula/plain"
 	"tabula/val"
 )
 
 func not(l ...api.Val) api.Val {
-	return truth(!l[0].B)
+	return plain.Truth(!l[0].B)
 }
 
 func choice(l ...api.Val) api.Val {
@@ -19,7 +20,7 @@ func choice(l ...api.Val) api.Val {
 	case len(l) == 3:
 		return l[2]
 	}
-	return truth(false)
+	return plain.Truth(false)
 }
 
 func unless(is func(api.Val) bool) func(l ...api.Val) api.Val {
@@ -37,11 +38,11 @@ func ofTruths(tell func([]bool) bool) func(l ...api.Val) api.Val {
 		list, wrong := truths(l)
 		switch {
 		case wrong > 0:
-			return fault(wrong)
+			return plain.Fault(wrong)
 		case len(list) == 0:
-			return fault(api.VValue)
+			return plain.Fault(api.VValue)
 		}
-		return truth(tell(list))
+		return plain.Truth(tell(list))
 	}
 }
 
@@ -81,9 +82,9 @@ func oddOf(list []bool) bool {
 
 func time(now api.Dec) api.Val {
 	if !dec.Right(now) {
-		return fault(api.VNum)
+		return plain.Fault(api.VNum)
 	}
-	return number(now)
+	return plain.Number(now)
 }
 
 func choose(l ...api.Val) api.Val {
@@ -92,7 +93,7 @@ func choose(l ...api.Val) api.Val {
 	case isFault(v):
 		return v
 	case k >= len(l):
-		return fault(api.VValue)
+		return plain.Fault(api.VValue)
 	}
 	return l[k]
 }

@@ -3,6 +3,7 @@ package fun
 import (
 	"tabula/api"
 	"tabula/dec"
+	"tabula/plain"
 )
 
 func same(l ...api.Val) api.Val {
@@ -12,7 +13,7 @@ func same(l ...api.Val) api.Val {
 func abs(l ...api.Val) api.Val {
 	d := l[0].N
 	d.M = max(d.M, -d.M)
-	return number(d)
+	return plain.Number(d)
 }
 
 func sign(l ...api.Val) api.Val {
@@ -20,11 +21,11 @@ func sign(l ...api.Val) api.Val {
 }
 
 func integer(l ...api.Val) api.Val {
-	return number(floor(l[0].N))
+	return plain.Number(floor(l[0].N))
 }
 
 func truncated(l ...api.Val) api.Val {
-	return number(trunc(l[0].N))
+	return plain.Number(trunc(l[0].N))
 }
 
 // floor asks dec only of what has a part: whole numbers may be too great for it.
@@ -48,43 +49,43 @@ func trunc(d api.Dec) api.Dec {
 func rounded(l ...api.Val) api.Val {
 	digits, ok := whole(given(l, 1, 0), -api.MaxTen)
 	if !ok || digits > api.MaxTen {
-		return fault(api.VNum)
+		return plain.Fault(api.VNum)
 	}
-	return decimal(dec.Round(l[0].N, digits))
+	return plain.Decimal(dec.Round(l[0].N, digits))
 }
 
 func modulo(l ...api.Val) api.Val {
-	by := decimal(dec.Div(l[0].N, l[1].N))
+	by := plain.Decimal(dec.Div(l[0].N, l[1].N))
 	if isFault(by) {
 		return by
 	}
-	times := decimal(dec.Mul(l[1].N, floor(by.N)))
+	times := plain.Decimal(dec.Mul(l[1].N, floor(by.N)))
 	if isFault(times) {
 		return times
 	}
-	return decimal(dec.Sub(l[0].N, times.N))
+	return plain.Decimal(dec.Sub(l[0].N, times.N))
 }
 
 func quotient(l ...api.Val) api.Val {
-	by := decimal(dec.Div(l[0].N, l[1].N))
+	by := plain.Decimal(dec.Div(l[0].N, l[1].N))
 	if isFault(by) {
 		return by
 	}
-	return number(trunc(by.N))
+	return plain.Number(trunc(by.N))
 }
 
 func power(l ...api.Val) api.Val {
 	n, ok := whole(l[1].N, -100)
 	if !ok || n > 100 {
-		return fault(api.VNum)
+		return plain.Fault(api.VNum)
 	}
-	return decimal(dec.Power(l[0].N, n))
+	return plain.Decimal(dec.Power(l[0].N, n))
 }
 
 func factorial(l ...api.Val) api.Val {
 	n, ok := whole(l[0].N, 0)
 	if !ok || n > 17 {
-		return fault(api.VNum)
+		return plain.Fault(api.VNum)
 	}
 	times := 1
 	for i := range n {
@@ -98,14 +99,14 @@ func parity(even bool) func(l ...api.Val) api.Val {
 	return func(l ...api.Val) api.Val {
 		d := trunc(l[0].N)
 		isEven := d.E > 0 || d.M%2 == 0
-		return truth(isEven == even)
+		return plain.Truth(isEven == even)
 	}
 }
 
 func char(l ...api.Val) api.Val {
 	n, ok := whole(l[0].N, ' ')
 	if !ok || n > 0x10ffff || n == 0x7f || n >= 0xd800 && n <= 0xdfff {
-		return fault(api.VValue)
+		return plain.Fault(api.VValue)
 	}
 	return text(string(rune(n)))
 }

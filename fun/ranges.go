@@ -5,6 +5,7 @@ import (
 
 	"tabula/api"
 	"tabula/dec"
+	"tabula/plain"
 	"tabula/val"
 )
 
@@ -60,7 +61,7 @@ func index(l ...api.Val) api.Val {
 		at[0], at[1] = at[1], at[0]
 	}
 	if at[0] > len(list) || at[1] > len(list[0]) {
-		return fault(api.VRef)
+		return plain.Fault(api.VRef)
 	}
 	return list[at[0]-1][at[1]-1]
 }
@@ -70,11 +71,11 @@ func match(l ...api.Val) api.Val {
 	case api.Fault:
 		return l[0]
 	case api.Array:
-		return fault(api.VValue)
+		return plain.Fault(api.VValue)
 	}
 	i := slices.IndexFunc(flat(l[1]), func(v api.Val) bool { return isBeside(v, l[0]) })
 	if i < 0 {
-		return fault(api.VNA)
+		return plain.Fault(api.VNA)
 	}
 	return count(i + 1)
 }
@@ -104,14 +105,14 @@ func sequence(l ...api.Val) api.Val {
 	rows, some := whole(told[0].N, 1)
 	cols, more := whole(given(told, 1, 1), 1)
 	if !some || !more || rows > api.MaxArray || cols > api.MaxArray/rows {
-		return fault(api.VValue)
+		return plain.Fault(api.VValue)
 	}
 	first, step := given(told, 2, 1), given(told, 3, 1)
 	var list []api.Val
 	for k := range rows * cols {
-		v := decimal(dec.Mul(count(k).N, step))
+		v := plain.Decimal(dec.Mul(count(k).N, step))
 		if !isFault(v) {
-			v = decimal(dec.Add(first, v.N))
+			v = plain.Decimal(dec.Add(first, v.N))
 		}
 		list = append(list, v)
 	}
@@ -145,7 +146,7 @@ func sort(l ...api.Val) api.Val {
 	}
 	list := lines(l[0])
 	if by > len(list[0]) {
-		return fault(api.VValue)
+		return plain.Fault(api.VValue)
 	}
 	if l[0].Kind != api.Array {
 		return l[0]
@@ -160,7 +161,7 @@ func filter(l ...api.Val) api.Val {
 	}
 	list, asked := lines(l[0]), lines(l[1])
 	if l[0].Kind == api.Func || l[1].Kind == api.Func || len(asked[0]) != 1 || len(asked) != len(list) {
-		return fault(api.VValue)
+		return plain.Fault(api.VValue)
 	}
 	var kept [][]api.Val
 	for i, row := range asked {
@@ -178,7 +179,7 @@ func filter(l ...api.Val) api.Val {
 	case len(l) == 3:
 		return l[2]
 	}
-	return fault(api.VNA)
+	return plain.Fault(api.VNA)
 }
 
 func lookUp(l ...api.Val) api.Val {
@@ -186,7 +187,7 @@ func lookUp(l ...api.Val) api.Val {
 	case api.Fault:
 		return l[0]
 	case api.Array:
-		return fault(api.VValue)
+		return plain.Fault(api.VValue)
 	}
 	col, told := place(l[2])
 	if isFault(told) {
@@ -197,9 +198,9 @@ func lookUp(l ...api.Val) api.Val {
 			continue
 		}
 		if col > len(row) {
-			return fault(api.VRef)
+			return plain.Fault(api.VRef)
 		}
 		return row[col-1]
 	}
-	return fault(api.VNA)
+	return plain.Fault(api.VNA)
 }

@@ -5,6 +5,7 @@ import (
 
 	"tabula/api"
 	"tabula/dec"
+	"tabula/plain"
 	"tabula/val"
 )
 
@@ -13,7 +14,7 @@ func ofNumbers(tell func([]api.Dec) api.Val) func(l ...api.Val) api.Val {
 	return func(l ...api.Val) api.Val {
 		list, wrong := numbers(l...)
 		if wrong > 0 {
-			return fault(wrong)
+			return plain.Fault(wrong)
 		}
 		return tell(list)
 	}
@@ -39,9 +40,9 @@ func numbers(l ...api.Val) ([]api.Dec, int) {
 
 // all goes through numbers by what is done with two, up to the first error.
 func all(first api.Dec, list []api.Dec, do func(a, b api.Dec) (api.Dec, api.Errno)) api.Val {
-	v := number(first)
+	v := plain.Number(first)
 	for _, d := range list {
-		v = decimal(do(v.N, d))
+		v = plain.Decimal(do(v.N, d))
 		if isFault(v) {
 			return v
 		}
@@ -64,14 +65,14 @@ func least(list []api.Dec) api.Val {
 	if len(list) == 0 {
 		return count(0)
 	}
-	return number(slices.MinFunc(list, dec.Compare))
+	return plain.Number(slices.MinFunc(list, dec.Compare))
 }
 
 func greatest(list []api.Dec) api.Val {
 	if len(list) == 0 {
 		return count(0)
 	}
-	return number(slices.MaxFunc(list, dec.Compare))
+	return plain.Number(slices.MaxFunc(list, dec.Compare))
 }
 
 func average(list []api.Dec) api.Val {
@@ -79,23 +80,23 @@ func average(list []api.Dec) api.Val {
 	if isFault(total) {
 		return total
 	}
-	return decimal(dec.Div(total.N, count(len(list)).N))
+	return plain.Decimal(dec.Div(total.N, count(len(list)).N))
 }
 
 func median(list []api.Dec) api.Val {
 	if len(list) == 0 {
-		return fault(api.VNum)
+		return plain.Fault(api.VNum)
 	}
 	slices.SortFunc(list, dec.Compare)
 	half := len(list) / 2
 	if len(list)%2 == 1 {
-		return number(list[half])
+		return plain.Number(list[half])
 	}
-	both := decimal(dec.Add(list[half-1], list[half]))
+	both := plain.Decimal(dec.Add(list[half-1], list[half]))
 	if isFault(both) {
 		return both
 	}
-	return decimal(dec.Div(both.N, api.Dec{M: 2}))
+	return plain.Decimal(dec.Div(both.N, api.Dec{M: 2}))
 }
 
 func isSome(v api.Val) bool {
@@ -124,7 +125,7 @@ func ranked(order func(a, b api.Dec) int) func(l ...api.Val) api.Val {
 	return func(l ...api.Val) api.Val {
 		list, wrong := numbers(l[0])
 		if wrong > 0 {
-			return fault(wrong)
+			return plain.Fault(wrong)
 		}
 		at := single(l[1])
 		if isFault(at) {
@@ -132,16 +133,16 @@ func ranked(order func(a, b api.Dec) int) func(l ...api.Val) api.Val {
 		}
 		k, ok := whole(at.N, 1)
 		if !ok || k > len(list) {
-			return fault(api.VNum)
+			return plain.Fault(api.VNum)
 		}
 		slices.SortFunc(list, order)
-		return number(list[k-1])
+		return plain.Number(list[k-1])
 	}
 }
 
 func countIf(l ...api.Val) api.Val {
 	if l[1].Kind == api.Array {
-		return fault(api.VValue)
+		return plain.Fault(api.VValue)
 	}
 	return counting(func(v api.Val) bool { return isBeside(v, l[1]) })(l[0])
 }
@@ -152,7 +153,7 @@ func sumIf(l ...api.Val) api.Val {
 		added = asked
 	}
 	if l[1].Kind == api.Array || len(asked) != len(added) {
-		return fault(api.VValue)
+		return plain.Fault(api.VValue)
 	}
 	var list []api.Dec
 	for i, v := range added {

@@ -3,6 +3,7 @@ package fun
 import (
 	"tabula/api"
 	"tabula/dec"
+	"tabula/plain"
 )
 
 // many is how many values functions take that take any number.
@@ -45,9 +46,9 @@ func logical() map[string]function {
 		"AND":       {1, many, "", ofTruths(allOf)},
 		"OR":        {1, many, "", ofTruths(someOf)},
 		"XOR":       {1, many, "", ofTruths(oddOf)},
-		"TRUE":      {0, 0, "", always(truth(true))},
-		"FALSE":     {0, 0, "", always(truth(false))},
-		"NA":        {0, 0, "", always(fault(api.VNA))},
+		"TRUE":      {0, 0, "", always(plain.Truth(true))},
+		"FALSE":     {0, 0, "", always(plain.Truth(false))},
+		"NA":        {0, 0, "", always(plain.Fault(api.VNA))},
 	}
 }
 

@@ -6,6 +6,7 @@ import (
 
 	"tabula/api"
 	"tabula/letters"
+	"tabula/plain"
 	"tabula/val"
 )
 
@@ -36,7 +37,7 @@ func length(l ...api.Val) api.Val {
 func left(l ...api.Val) api.Val {
 	n, ok := whole(given(l, 1, 1), 0)
 	if !ok {
-		return fault(api.VValue)
+		return plain.Fault(api.VValue)
 	}
 	return text(cut(l[0].S, 0, n))
 }
@@ -44,7 +45,7 @@ func left(l ...api.Val) api.Val {
 func right(l ...api.Val) api.Val {
 	n, ok := whole(given(l, 1, 1), 0)
 	if !ok {
-		return fault(api.VValue)
+		return plain.Fault(api.VValue)
 	}
 	all := size(l[0].S)
 	return text(cut(l[0].S, max(all-n, 0), all))
@@ -54,7 +55,7 @@ func middle(l ...api.Val) api.Val {
 	from, begins := whole(l[1].N, 1)
 	n, ends := whole(l[2].N, 0)
 	if !begins || !ends {
-		return fault(api.VValue)
+		return plain.Fault(api.VValue)
 	}
 	return text(cut(l[0].S, from-1, from-1+n))
 }
@@ -76,7 +77,7 @@ func trim(l ...api.Val) api.Val {
 func repeat(l ...api.Val) api.Val {
 	n, ok := whole(l[1].N, 0)
 	if !ok || len(l[0].S)*n > api.MaxText {
-		return fault(api.VValue)
+		return plain.Fault(api.VValue)
 	}
 	if l[0].S == "" {
 		return text("")
@@ -89,12 +90,12 @@ func search(l ...api.Val) api.Val {
 	list := signs(s)
 	from, ok := whole(given(l, 2, 1), 1)
 	if !ok || from > len(list) {
-		return fault(api.VValue)
+		return plain.Fault(api.VValue)
 	}
 	begin := list[from-1]
 	further := strings.Index(s[begin:], l[0].S)
 	if further < 0 {
-		return fault(api.VValue)
+		return plain.Fault(api.VValue)
 	}
 	return count(slices.Index(list, begin+further) + 1)
 }
@@ -107,14 +108,14 @@ func substitute(l ...api.Val) api.Val {
 }
 
 func exact(l ...api.Val) api.Val {
-	return truth(l[0].S == l[1].S)
+	return plain.Truth(l[0].S == l[1].S)
 }
 
 func code(l ...api.Val) api.Val {
 	for _, c := range l[0].S {
 		return count(int(c))
 	}
-	return fault(api.VValue)
+	return plain.Fault(api.VValue)
 }
 
 // texts are those of values, or the first error that stands among them.
@@ -133,7 +134,7 @@ func texts(l []api.Val) ([]string, int) {
 func concat(l ...api.Val) api.Val {
 	list, wrong := texts(flat(l...))
 	if wrong > 0 {
-		return fault(wrong)
+		return plain.Fault(wrong)
 	}
 	return text(strings.Join(list, ""))
 }
@@ -142,7 +143,7 @@ func textJoin(l ...api.Val) api.Val {
 	between, leaves := val.ToText(l[0]), val.ToBool(l[1])
 	switch {
 	case between.Kind == api.Array || leaves.Kind == api.Array:
-		return fault(api.VValue)
+		return plain.Fault(api.VValue)
 	case isFault(between):
 		return between
 	case isFault(leaves):
@@ -150,7 +151,7 @@ func textJoin(l ...api.Val) api.Val {
 	}
 	list, wrong := texts(flat(l[2:]...))
 	if wrong > 0 {
-		return fault(wrong)
+		return plain.Fault(wrong)
 	}
 	if leaves.B {
 		list = slices.DeleteFunc(list, func(s string) bool { return s == "" })

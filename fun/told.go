@@ -4,43 +4,21 @@ import (
 	"tabula/api"
 	"tabula/dec"
 	"tabula/letters"
+	"tabula/plain"
 	"tabula/val"
 )
 
-func fault(n int) api.Val {
-	return api.Val{Kind: api.Fault, Err: n}
-}
-
-func number(d api.Dec) api.Val {
-	return api.Val{Kind: api.Num, N: d}
-}
-
-func truth(b bool) api.Val {
-	return api.Val{Kind: api.Truth, B: b}
-}
-
 // count is for whole numbers that have a decimal: what there may be of anything.
 func count(n int) api.Val {
-	return decimal(dec.Of(n))
-}
-
-// decimal tells what dec tells, its errors as values.
-func decimal(d api.Dec, err api.Errno) api.Val {
-	switch err {
-	case api.OK:
-		return number(d)
-	case api.ErrZero:
-		return fault(api.VDiv)
-	}
-	return fault(api.VNum)
+	return plain.Decimal(dec.Of(n))
 }
 
 // text is VValue in place of what is too long for a text, or none.
 func text(s string) api.Val {
 	if len(s) > api.MaxText || !letters.IsText(s) {
-		return fault(api.VValue)
+		return plain.Fault(api.VValue)
 	}
-	return api.Val{Kind: api.Text, S: s}
+	return plain.Text(s)
 }
 
 func isKind(kind int) func(api.Val) bool {
@@ -61,19 +39,15 @@ func isBeside(a api.Val, b api.Val) bool {
 
 // whole is the whole number that d is; false, if it is none from least on, or too great for one.
 func whole(d api.Dec, least int) (int, bool) {
-	n, err := dec.Floor(d)
-	if err != api.OK || n < least {
-		return 0, false
-	}
-	back, err := dec.Of(n)
-	return n, err == api.OK && back == d
+	n, ok := plain.Whole(d)
+	return n, ok && n >= least
 }
 
 // single is one number, or an error: an array is none.
 func single(v api.Val) api.Val {
 	v = val.ToNum(v)
 	if v.Kind == api.Array {
-		return fault(api.VValue)
+		return plain.Fault(api.VValue)
 	}
 	return v
 }
@@ -86,7 +60,7 @@ func place(v api.Val) (int, api.Val) {
 	}
 	n, ok := whole(v.N, 1)
 	if !ok {
-		return 0, fault(api.VValue)
+		return 0, plain.Fault(api.VValue)
 	}
 	return n, v
 }
@@ -118,5 +92,5 @@ func always(v api.Val) func(l ...api.Val) api.Val {
 
 // whether tells if its value is so.
 func whether(is func(api.Val) bool) func(l ...api.Val) api.Val {
-	return func(l ...api.Val) api.Val { return truth(is(l[0])) }
+	return func(l ...api.Val) api.Val { return plain.Truth(is(l[0])) }
 }

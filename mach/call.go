@@ -5,6 +5,7 @@ import (
 
 	"tabula/api"
 	"tabula/fun"
+	"tabula/plain"
 	"tabula/val"
 )
 
@@ -66,24 +67,24 @@ func (c *call) do(x api.Ins) int {
 func constant(x api.Ins) api.Val {
 	switch x.Op {
 	case api.InNum:
-		return number(x.N)
+		return plain.Number(x.N)
 	case api.InText:
-		return text(x.S)
+		return plain.Text(x.S)
 	case api.InTruth:
-		return truth(x.A == 1)
+		return plain.Truth(x.A == 1)
 	case api.InFault:
-		return fault(x.A)
+		return plain.Fault(x.A)
 	}
 	return api.Val{}
 }
 
 func array(rows int, cols int, l []api.Val) api.Val {
 	if len(l) > api.MaxArray {
-		return fault(api.VNum)
+		return plain.Fault(api.VNum)
 	}
 	for i, v := range l {
 		if v.Kind == api.Array || v.Kind == api.Func {
-			l[i] = fault(api.VValue)
+			l[i] = plain.Fault(api.VValue)
 		}
 	}
 	return api.Val{Kind: api.Array, Rows: rows, Cols: cols, L: l}
@@ -93,7 +94,7 @@ func (c *call) unless(x api.Ins) int {
 	told := val.ToBool(c.stack.take())
 	switch {
 	case told.Kind == api.Array:
-		told = fault(api.VValue)
+		told = plain.Fault(api.VValue)
 		fallthrough
 	case told.Kind == api.Fault:
 		c.stack.lay(told)
@@ -119,7 +120,7 @@ func (c *call) get(name string) api.Val {
 			return k.v
 		}
 	}
-	return fault(api.VName)
+	return plain.Fault(api.VName)
 }
 
 func (c *call) function(x api.Ins) api.Val {
@@ -129,7 +130,7 @@ func (c *call) function(x api.Ins) api.Val {
 		f.L = append(f.L, c.get(name))
 	}
 	if weight(f) > maxWeight {
-		return fault(api.VNum)
+		return plain.Fault(api.VNum)
 	}
 	return f
 }
@@ -150,14 +151,14 @@ func (c *call) apply(f api.Val, l []api.Val) api.Val {
 		return f
 	}
 	if f.Kind != api.Func {
-		return fault(api.VValue)
+		return plain.Fault(api.VValue)
 	}
 	params := parts(m.code.Params[f.Fn])
 	if len(params) != len(l) {
-		return fault(api.VValue)
+		return plain.Fault(api.VValue)
 	}
 	if m.calls == api.MaxCalls {
-		return fault(api.VNum)
+		return plain.Fault(api.VNum)
 	}
 	held, own, named := strings.Cut(f.S, ";")
 	names := keep(nil, parts(held), f.L)

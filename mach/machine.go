@@ -5,6 +5,7 @@ import (
 
 	"tabula/api"
 	"tabula/letters"
+	"tabula/plain"
 )
 
 // machine is one run: how many steps are done, how many calls are under way, what was read.
@@ -24,7 +25,7 @@ func (m *machine) run() (v api.Val) {
 		switch r := recover().(type) {
 		case nil:
 		case ended:
-			v = fault(api.VNum)
+			v = plain.Fault(api.VNum)
 		default:
 			panic(r)
 		}
@@ -50,7 +51,7 @@ func (m *machine) block(number int, names []kept) api.Val {
 func (m *machine) read(from api.Ref, to api.Ref) api.Val {
 	sheet := m.sheet(from.Sheet)
 	if sheet < 0 || from.Bad || to.Bad {
-		return fault(api.VRef)
+		return plain.Fault(api.VRef)
 	}
 	a := api.Area{Sheet: sheet, Row: min(from.Row, to.Row), Col: min(from.Col, to.Col)}
 	a.Rows = max(from.Row, to.Row) - a.Row + 1
@@ -63,7 +64,7 @@ func (m *machine) read(from api.Ref, to api.Ref) api.Val {
 		return m.shown(api.At{Sheet: sheet, Row: a.Row, Col: a.Col})
 	}
 	if cells > api.MaxArray {
-		return fault(api.VNum)
+		return plain.Fault(api.VNum)
 	}
 	list := make([]api.Val, 0, cells)
 	for i := range cells {

@@ -3,36 +3,13 @@ package mach
 import (
 	"tabula/api"
 	"tabula/dec"
-	"tabula/grid"
+	"tabula/plain"
 	"tabula/val"
 )
 
-func number(d api.Dec) api.Val {
-	return api.Val{Kind: api.Num, N: d}
-}
-
-func text(s string) api.Val {
-	return api.Val{Kind: api.Text, S: s}
-}
-
-func truth(b bool) api.Val {
-	return api.Val{Kind: api.Truth, B: b}
-}
-
-// decimal tells what dec tells, its errors as values.
-func decimal(d api.Dec, err api.Errno) api.Val {
-	switch err {
-	case api.OK:
-		return number(d)
-	case api.ErrZero:
-		return fault(api.VDiv)
-	}
-	return fault(api.VNum)
-}
-
 // operator does an operator with two values, of arrays one by one.
 func operator(op string, a api.Val, b api.Val) api.Val {
-	return grid.Each([]api.Val{a, b}, func(l []api.Val) api.Val {
+	return plain.Each([]api.Val{a, b}, func(l []api.Val) api.Val {
 		a, b := valued(l[0]), valued(l[1])
 		switch {
 		case a.Kind == api.Fault:
@@ -46,7 +23,7 @@ func operator(op string, a api.Val, b api.Val) api.Val {
 		case "+", "-", "*", "/", "^":
 			return reckoned(op, val.ToNum(a), val.ToNum(b))
 		}
-		return truth(compared(op, val.Compare(beside(a, b), beside(b, a))))
+		return plain.Truth(compared(op, val.Compare(beside(a, b), beside(b, a))))
 	})
 }
 
@@ -54,21 +31,21 @@ func operator(op string, a api.Val, b api.Val) api.Val {
 func ahead(op string, v api.Val) api.Val {
 	return each(v, func(d api.Dec) api.Val {
 		if op == "-" {
-			return decimal(dec.Sub(api.Dec{}, d))
+			return plain.Decimal(dec.Sub(api.Dec{}, d))
 		}
-		return number(d)
+		return plain.Number(d)
 	})
 }
 
 func percent(v api.Val) api.Val {
 	return each(v, func(d api.Dec) api.Val {
-		return decimal(dec.Mul(d, api.Dec{M: 1, E: -2}))
+		return plain.Decimal(dec.Mul(d, api.Dec{M: 1, E: -2}))
 	})
 }
 
 // each does with a number, of arrays one by one, what errors are left out of.
 func each(v api.Val, do func(api.Dec) api.Val) api.Val {
-	return grid.Each([]api.Val{v}, func(l []api.Val) api.Val {
+	return plain.Each([]api.Val{v}, func(l []api.Val) api.Val {
 		n := val.ToNum(l[0])
 		if n.Kind == api.Fault {
 			return n
@@ -80,7 +57,7 @@ func each(v api.Val, do func(api.Dec) api.Val) api.Val {
 // valued is an error in place of a function.
 func valued(v api.Val) api.Val {
 	if v.Kind == api.Func {
-		return fault(api.VValue)
+		return plain.Fault(api.VValue)
 	}
 	return v
 }
@@ -88,9 +65,9 @@ func valued(v api.Val) api.Val {
 func joined(a api.Val, b api.Val) api.Val {
 	s := val.ToText(a).S + val.ToText(b).S
 	if len(s) > api.MaxText {
-		return fault(api.VValue)
+		return plain.Fault(api.VValue)
 	}
-	return text(s)
+	return plain.Text(s)
 }
 
 func reckoned(op string, a api.Val, b api.Val) api.Val {
@@ -102,27 +79,24 @@ func reckoned(op string, a api.Val, b api.Val) api.Val {
 	}
 	switch op {
 	case "+":
-		return decimal(dec.Add(a.N, b.N))
+		return plain.Decimal(dec.Add(a.N, b.N))
 	case "-":
-		return decimal(dec.Sub(a.N, b.N))
+		return plain.Decimal(dec.Sub(a.N, b.N))
 	case "*":
-		return decimal(dec.Mul(a.N, b.N))
+		return plain.Decimal(dec.Mul(a.N, b.N))
 	case "/":
-		return decimal(dec.Div(a.N, b.N))
+		return plain.Decimal(dec.Div(a.N, b.N))
 	}
 	return power(a.N, b.N)
 }
 
-// power takes whole numbers alone; dec itself refuses those that are too great.
+// power leaves it to dec to refuse whole numbers that are too great.
 func power(a api.Dec, b api.Dec) api.Val {
-	n, err := dec.Floor(b)
-	if err != api.OK {
-		return fault(api.VNum)
+	n, ok := plain.Whole(b)
+	if !ok {
+		return plain.Fault(api.VNum)
 	}
-	if whole, err := dec.Of(n); err != api.OK || whole != b {
-		return fault(api.VNum)
-	}
-	return decimal(dec.Power(a, n))
+	return plain.Decimal(dec.Power(a, n))
 }
 
 // beside is what an empty value counts as beside another one.

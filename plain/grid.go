@@ -1,5 +1,4 @@
-// Package grid does with arrays, one by one, what is done with plain values.
-package grid
+package plain
 
 import (
 	"tabula/api"
@@ -16,7 +15,7 @@ func Each(l []api.Val, do func([]api.Val) api.Val) api.Val {
 		return do(l)
 	}
 	if rows*cols > api.MaxArray {
-		return fault(api.VNum)
+		return Fault(api.VNum)
 	}
 	list := make([]api.Val, 0, rows*cols)
 	for row := range rows {
@@ -25,7 +24,7 @@ func Each(l []api.Val, do func([]api.Val) api.Val) api.Val {
 			for _, v := range l {
 				there = append(there, at(v, row, col))
 			}
-			list = append(list, plain(do(there)))
+			list = append(list, only(do(there)))
 		}
 	}
 	return api.Val{Kind: api.Array, Rows: rows, Cols: cols, L: list}
@@ -43,7 +42,7 @@ func at(v api.Val, row int, col int) api.Val {
 		col = 0
 	}
 	if row >= v.Rows || col >= v.Cols {
-		return fault(api.VNA)
+		return Fault(api.VNA)
 	}
 	return v.L[row*v.Cols+col]
 }
@@ -57,13 +56,10 @@ func Fresh(v api.Val) api.Val {
 	return v
 }
 
-func plain(v api.Val) api.Val {
+// only is an error in place of what is no plain value.
+func only(v api.Val) api.Val {
 	if v.Kind == api.Array || v.Kind == api.Func {
-		return fault(api.VValue)
+		return Fault(api.VValue)
 	}
 	return v
-}
-
-func fault(n int) api.Val {
-	return api.Val{Kind: api.Fault, Err: n}
 }

@@ -1,10 +1,10 @@
-package grid_test
+package plain_test
 
 import (
 	"testing"
 
 	"tabula/api"
-	"tabula/grid"
+	"tabula/plain"
 	"tabula/val"
 )
 
@@ -54,22 +54,22 @@ func TestEach(t *testing.T) {
 		{[]api.Val{array(1, 400, many(400)...), array(2, 1, num(1), num(2))}, fault(api.VNum)},
 		{[]api.Val{array(1, 20, many(20)...), array(21, 1, many(21)...)}, fault(api.VNum)},
 	} {
-		if got := grid.Each(c.l, add); !val.Same(got, c.want) {
+		if got := plain.Each(c.l, add); !val.Same(got, c.want) {
 			t.Errorf("Each %d: %+v; want %+v", i, got, c.want)
 		}
 	}
 	first := func(l []api.Val) api.Val { return l[0] }
-	if got := grid.Each([]api.Val{function, array(1, 2, num(1), num(2))}, first); !val.Same(got, array(1, 2, fault(api.VValue), fault(api.VValue))) {
+	if got := plain.Each([]api.Val{function, array(1, 2, num(1), num(2))}, first); !val.Same(got, array(1, 2, fault(api.VValue), fault(api.VValue))) {
 		t.Errorf("Each of a function: %+v", got)
 	}
-	if got := grid.Each([]api.Val{function}, first); !val.Same(got, function) {
+	if got := plain.Each([]api.Val{function}, first); !val.Same(got, function) {
 		t.Errorf("Each of a function alone: %+v", got)
 	}
-	if got := grid.Each([]api.Val{array(1, 20, many(20)...), array(20, 1, many(20)...)}, add); got.Rows != 20 || got.Cols != 20 || !val.Right(got) {
+	if got := plain.Each([]api.Val{array(1, 20, many(20)...), array(20, 1, many(20)...)}, add); got.Rows != 20 || got.Cols != 20 || !val.Right(got) {
 		t.Errorf("Each of as much as there may be: %+v", got)
 	}
 	nested := func(l []api.Val) api.Val { return array(1, 1, num(1)) }
-	if got := grid.Each([]api.Val{array(1, 1, num(1))}, nested); !val.Same(got, array(1, 1, fault(api.VValue))) {
+	if got := plain.Each([]api.Val{array(1, 1, num(1))}, nested); !val.Same(got, array(1, 1, fault(api.VValue))) {
 		t.Errorf("Each that tells arrays: %+v", got)
 	}
 }
@@ -85,7 +85,7 @@ func TestFresh(t *testing.T) {
 		},
 	} {
 		v := make()
-		got := grid.Fresh(v)
+		got := plain.Fresh(v)
 		if !val.Same(got, v) || cap(got.L) > 0 && cap(v.L) > 0 && &got.L[:1][0] == &v.L[:1][0] {
 			t.Errorf("Fresh %d: %+v", i, got)
 		}
