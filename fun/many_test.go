@@ -5,6 +5,7 @@ import (
 	"testing"
 
 	"tabula/api"
+	"tabula/dec"
 	"tabula/fun"
 	"tabula/val"
 )
@@ -20,6 +21,9 @@ func TestSums(t *testing.T) {
 		SUM("x") => #VALUE!
 		SUM("x",#N/A) => #VALUE!
 		SUM(#N/A,"x") => #N/A
+		SUM(#NULL!) => #NULL!
+		SUM({1,#NULL!}) => #NULL!
+		LARGE({1,#NULL!},1) => #NULL!
 		SUM(1,{1,#NUM!;#N/A,1}) => #NUM!
 		SUM(f) => #VALUE!
 		SUM(1,f,#N/A) => #VALUE!
@@ -334,6 +338,23 @@ func TestRanges(t *testing.T) {
 		VLOOKUP(1,wide,400) => 1
 		VLOOKUP(1,wide,401) => #REF!
 	`)
+}
+
+// P7.2: arrays as great as they may be.
+func TestSequence(t *testing.T) {
+	for _, size := range [][2]int{{400, 1}, {1, 400}, {20, 20}, {200, 2}, {16, 25}, {133, 3}} {
+		rows, _ := dec.Of(size[0])
+		cols, _ := dec.Of(size[1])
+		got := fun.Call("SEQUENCE", []api.Val{{Kind: api.Num, N: rows}, {Kind: api.Num, N: cols}}, api.Dec{})
+		if got.Rows != size[0] || got.Cols != size[1] || !val.Right(got) {
+			t.Errorf("SEQUENCE of %v: %d rows, %d columns", size, got.Rows, got.Cols)
+		}
+		for i, v := range got.L {
+			if n, _ := dec.Of(i + 1); v.N != n {
+				t.Errorf("SEQUENCE of %v: %+v in place %d", size, v, i)
+			}
+		}
+	}
 }
 
 // P7.4: sums do not hang on how numbers are parted into arrays.

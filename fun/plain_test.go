@@ -229,6 +229,8 @@ func TestLogic(t *testing.T) {
 		TYPE(f) => 128
 		AND(TRUE,1,"true") => TRUE
 		AND(TRUE,0) => FALSE
+		AND(#NULL!) => #NULL!
+		OR({TRUE,#NULL!}) => #NULL!
 		AND(TRUE,"x") => #VALUE!
 		AND(TRUE,"1") => #VALUE!
 		AND(e) => #VALUE!
@@ -368,6 +370,7 @@ func TestTexts(t *testing.T) {
 		SUBSTITUTE("aAa","a","x") => xAx
 		SUBSTITUTE(121,1,"") => '2
 		SUBSTITUTE(most,"z","zz") => #VALUE!
+		SUBSTITUTE(long,"z","zz") => {"`+most+`",#VALUE!}
 		SUBSTITUTE(most,"zz","z") => `+most[:100]+`
 		EXACT("a","a") => TRUE
 		EXACT("a","A") => FALSE
@@ -384,6 +387,8 @@ func TestTexts(t *testing.T) {
 		CONCAT("a",1,TRUE,e,{2,"b"}) => a1TRUE2b
 		CONCAT("a",f,#N/A) => #VALUE!
 		CONCAT(#N/A,f) => #N/A
+		CONCAT(1,#NULL!) => #NULL!
+		TEXTJOIN("",TRUE,1,#NULL!) => #NULL!
 		CONCAT(e) => '
 		CONCAT(most,"") => `+most+`
 		CONCAT(most,"z") => #VALUE!

@@ -9,8 +9,10 @@ import (
 // many is how many values functions take that take any number.
 const many = 20
 
-func groups(now api.Dec) []map[string]function {
-	return []map[string]function{numeric(), logical(), textual(), summing(), choosing(now), ranging()}
+// groups make their maps only when they are asked, those that formulas ask most first: each call looks for its function anew.
+func groups(now api.Dec) []func() map[string]function {
+	timed := func() map[string]function { return choosing(now) }
+	return []func() map[string]function{summing, logical, numeric, ranging, textual, timed}
 }
 
 func numeric() map[string]function {

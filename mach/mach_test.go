@@ -368,6 +368,7 @@ func TestWrong(t *testing.T) {
 		}
 	}
 	for name, do := range map[string]func(f *api.Frame){
+		"one sheet":                   func(f *api.Frame) { f.Sheets, f.Vals = f.Sheets[:1], f.Vals[:3] },
 		"eight sheets":                func(f *api.Frame) { f.Sheets = strings.Split("a b c d e f g h", " ") },
 		"sheets of one name":          func(f *api.Frame) { f.Sheets = []string{"", "", "\xff", ""} },
 		"nothing shown":               func(f *api.Frame) { f.Vals = nil },

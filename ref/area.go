@@ -49,5 +49,5 @@ func isArea(a api.Area) bool {
 
 // within takes the first one from the limit, and does not add: a sum of any two numbers may run over.
 func within(first int, count int, limit int) bool {
-	return first >= 0 && first < limit && count >= 1 && count <= limit-first
+	return first >= 0 && count >= 1 && count <= limit-first
 }

@@ -85,10 +85,7 @@ func cutSheet(s string) (string, string, bool) {
 func cutQuoted(s string) (string, string, bool) {
 	var name strings.Builder
 	for {
-		part, behind, found := strings.Cut(s, "'")
-		if !found {
-			return "", "", false
-		}
+		part, behind, _ := strings.Cut(s, "'")
 		name.WriteString(part)
 		if rest, ends := strings.CutPrefix(behind, "!"); ends {
 			return name.String(), rest, isSheet(name.String())
@@ -102,9 +99,9 @@ func cutQuoted(s string) (string, string, bool) {
 	}
 }
 
-// readRow takes no noughts ahead, and so at most three digits.
+// readRow takes no noughts ahead.
 func readRow(digits string) (int, bool) {
-	if len(digits) > 3 || strings.HasPrefix(digits, "0") {
+	if strings.HasPrefix(digits, "0") {
 		return 0, false
 	}
 	n, err := strconv.Atoi(digits)
@@ -121,6 +118,7 @@ func written(name string) string {
 	return "'" + strings.ReplaceAll(name, "'", "''") + "'"
 }
 
+// isPlain leaves it to isSheet to refuse an empty name.
 func isPlain(name string) bool {
 	for i, c := range name {
 		switch {
@@ -130,7 +128,7 @@ func isPlain(name string) bool {
 			return false
 		}
 	}
-	return name != ""
+	return true
 }
 
 func isSheet(name string) bool {

@@ -70,7 +70,7 @@ func isAhead(s string) bool {
 
 // isCall holds of the names of calls that a node of their own is for: not of LAMBDA and LET.
 func isCall(s string) bool {
-	if s == "" || len(s) > api.MaxName || s != letters.Great(s) || s == "LAMBDA" || s == "LET" {
+	if s == "" || len(s) > api.MaxName || s == "LAMBDA" || s == "LET" {
 		return false
 	}
 	for i, c := range s {

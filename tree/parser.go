@@ -26,13 +26,13 @@ func (p *parser) fail() {
 	panic(wrong{p.at})
 }
 
-// formula takes operators that are at least so tight.
+// formula takes operators that are at least so tight; what is none is less tight than any.
 func (p *parser) formula(least int) *branch {
 	left := p.backed()
 	for {
 		op := p.sign()
 		tight := tightness(op)
-		if tight == 0 || tight < least {
+		if tight < least {
 			return left
 		}
 		p.at++
@@ -181,7 +181,7 @@ func (p *parser) row(b *branch, cols int) int {
 		p.constant(b)
 		n++
 	}
-	if cols > 0 && n < cols {
+	if n < cols {
 		p.fail()
 	}
 	return n

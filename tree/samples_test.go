@@ -62,8 +62,8 @@ func rights() map[string]api.Node {
 		"#NULL!": fault(1), "#DIV/0!": fault(2), "#VALUE!": fault(3), "#NAME?": fault(5), "#NUM!": fault(6), "#N/A": fault(7), "#SPILL!": fault(8), "#CIRC!": fault(9),
 		"A1": cell(a1), "#REF!": cell(api.Ref{Bad: true}), "'Two x'!$B$3": cell(api.Ref{Sheet: "Two x", Row: 2, Col: 1, FixRow: true, FixCol: true}), "S!AZ200": cell(api.Ref{Sheet: "S", Row: 199, Col: 51}),
 		"A1:B2": span(a1, b2), "B2:A1": span(b2, a1), "S!A1:B$2": span(api.Ref{Sheet: "S"}, api.Ref{Row: 1, Col: 1, FixRow: true}), "A1:A1": span(a1, a1),
-		"x": name("x"), "Rate.1": name("Rate.1"), most: name(most), "T[a b]": column("T[a b]"), "T[é]": column("T[é]"), most + "[" + most + "]": column(most + "[" + most + "]"),
-		"SUM()": call("SUM"), "SUM(1)": call("SUM", num(1)), "A1(2)": call("A1", num(2)), "TRUE()": call("TRUE"), "_(1)": call("_", num(1)), "X.1_()": call("X.1_"), strings.ToUpper(most) + "()": call(strings.ToUpper(most)), "LAMBDA.(1)": call("LAMBDA.", num(1)),
+		"x": name("x"), "Rate.1": name("Rate.1"), most: name(most), "T[a b]": column("T[a b]"), "T[é]": column("T[é]"), "T[ AZaz09!_]": column("T[ AZaz09!_]"), most + "[" + most + "]": column(most + "[" + most + "]"),
+		"SUM()": call("SUM"), "SUM(1)": call("SUM", num(1)), "A1(2)": call("A1", num(2)), "TRUE()": call("TRUE"), "_(1)": call("_", num(1)), "AMZ09_.()": call("AMZ09_."), "X.1_()": call("X.1_"), strings.ToUpper(most) + "()": call(strings.ToUpper(most)), "LAMBDA.(1)": call("LAMBDA.", num(1)),
 		"{1}": array(1, num(1)), "{1,2;3,4}": array(2, num(1), num(2), num(3), num(4)), "{1,2,3;4,5,6}": array(2, num(1), num(2), num(3), num(4), num(5), num(6)), "{1;2;3}": array(3, num(1), num(2), num(3)), `{-1,"a";TRUE,#N/A}`: array(2, ahead("-", num(1)), text("a"), truth(true), fault(7)), "{-0}": array(1, ahead("-", num(0))),
 		"LAMBDA(1)": fun("", num(1)), "LAMBDA(x)": fun("", name("x")), "LAMBDA(x,x)": fun("x", name("x")), "LAMBDA(x,Y,z,x+1)": fun("x,Y,z", op("+", name("x"), num(1))),
 		"LET(x,1,x)": let("x", num(1), name("x")), "LET(x,y,z,2,x)": let("x,z", name("y"), num(2), name("x")),
@@ -71,7 +71,7 @@ func rights() map[string]api.Node {
 		"F(1)(2)":                 apply(call("F", num(1)), num(2)), "LAMBDA(x,x)(1)": apply(fun("x", name("x")), num(1)), "LET(x,1,x)()": apply(let("x", num(1), name("x"))), "F()()(1,2)": apply(apply(call("F")), num(1), num(2)), "(x)(1)": apply(name("x"), num(1)), "(1)()": apply(num(1)), "(A1:B2)(1)": apply(span(a1, b2), num(1)), "(-1)(2)": apply(ahead("-", num(1)), num(2)), "({1})(1)": apply(array(1, num(1)), num(1)), "(1+2)(3)": apply(op("+", num(1), num(2)), num(3)), "(5%)(3)": apply(back(num(5)), num(3)),
 		"-2^2": op("^", ahead("-", num(2)), num(2)), "-(2^2)": ahead("-", op("^", num(2), num(2))), "2^-2": op("^", num(2), ahead("-", num(2))), "2^3^2": op("^", op("^", num(2), num(3)), num(2)), "2^(3^2)": op("^", num(2), op("^", num(3), num(2))),
 		"50%": back(api.Node{Kind: api.NNum, N: api.Dec{M: 5, E: 1}}), "5%%": back(back(num(5))), "-5%": back(ahead("-", num(5))), "-(5%)": ahead("-", back(num(5))), "--+1": ahead("-", ahead("-", ahead("+", num(1)))), "(1^2)%": back(op("^", num(1), num(2))), "2^5%": op("^", num(2), back(num(5))), "5%^2": op("^", back(num(5)), num(2)),
-		"1-(2-3)": op("-", num(1), op("-", num(2), num(3))), "1-2-3": op("-", op("-", num(1), num(2)), num(3)), "1-2+3": op("+", op("-", num(1), num(2)), num(3)), "1-(2+3)": op("-", num(1), op("+", num(2), num(3))), "1+2*3": op("+", num(1), op("*", num(2), num(3))), "(1+2)*3": op("*", op("+", num(1), num(2)), num(3)), "1/(2*3)": op("/", num(1), op("*", num(2), num(3))), "1/2*3": op("*", op("/", num(1), num(2)), num(3)),
+		"1-(2-3)": op("-", num(1), op("-", num(2), num(3))), "1-2-3": op("-", op("-", num(1), num(2)), num(3)), "1-2+3": op("+", op("-", num(1), num(2)), num(3)), "1-(2+3)": op("-", num(1), op("+", num(2), num(3))), "1+2*3": op("+", num(1), op("*", num(2), num(3))), "2*3^2": op("*", num(2), op("^", num(3), num(2))), "2^3*2": op("*", op("^", num(2), num(3)), num(2)), "(2*3)^2": op("^", op("*", num(2), num(3)), num(2)), "(1+2)*3": op("*", op("+", num(1), num(2)), num(3)), "1/(2*3)": op("/", num(1), op("*", num(2), num(3))), "1/2*3": op("*", op("/", num(1), num(2)), num(3)),
 		"1&2+3": op("&", num(1), op("+", num(2), num(3))), "(1&2)+3": op("+", op("&", num(1), num(2)), num(3)), "1&(2&3)": op("&", num(1), op("&", num(2), num(3))), "1&2&3": op("&", op("&", num(1), num(2)), num(3)),
 		"1=2<>3": op("<>", op("=", num(1), num(2)), num(3)), "1<(2<=3)": op("<", num(1), op("<=", num(2), num(3))), "(1>2)&3": op("&", op(">", num(1), num(2)), num(3)), "1>=2&3": op(">=", num(1), op("&", num(2), num(3))), "(1=2)%": back(op("=", num(1), num(2))), "-(1=2)": ahead("-", op("=", num(1), num(2))), "-x*-y": op("*", ahead("-", name("x")), ahead("-", name("y"))),
 		"SUM(1=2,-1,LAMBDA(1+2))":     call("SUM", op("=", num(1), num(2)), ahead("-", num(1)), fun("", op("+", num(1), num(2)))),
@@ -126,6 +126,11 @@ func wrongs() []api.Node {
 		tower(21), call("F", many(200, num(1))...), array(1, many(200, num(1))...),
 	}
 	for _, n := range rights() {
+		if len(n.Kids) == 0 && n.Kind != api.NCall {
+			n.Kids = []api.Node{num(1)}
+			list = append(list, n)
+			n.Kids = nil
+		}
 		for i, x := range changed(n) {
 			if i == 4 && n.Kind == api.NTruth || i > 7 && (n.Kind == api.NRef || n.Kind == api.NRange) {
 				continue

@@ -51,7 +51,7 @@ func Read(s string) (api.Val, api.Errno) {
 		return truth(b), api.OK
 	}
 	for n, text := range faults {
-		if n >= api.VNull && low == letters.Small(text) {
+		if low == letters.Small(text) {
 			return fault(n), api.OK
 		}
 	}
