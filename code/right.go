@@ -39,7 +39,7 @@ func Right(c api.Code) bool {
 	return true
 }
 
-// isIns takes the fields away that are named for the kind: nothing may be left.
+// isIns takes the fields away that are named for the kind: nothing may be left. Which blocks a function may have is left to who knows them.
 func isIns(x api.Ins) bool {
 	rest, ok := x, false
 	switch x.Op {
@@ -68,7 +68,7 @@ func isIns(x api.Ins) bool {
 	case api.InGo, api.InApply, api.InForget:
 		rest.A, ok = 0, isFrom(0, x.A, maxNumber)
 	case api.InFunc:
-		rest.A, rest.S, ok = 0, "", isFrom(1, x.A, maxNumber) && isHeld(x.S)
+		rest.A, rest.S, ok = 0, "", isHeld(x.S)
 	case api.InKeep, api.InGet:
 		rest.S, ok = "", isName(x.S)
 	}
@@ -137,7 +137,7 @@ func isBalanced(block []api.Ins) bool {
 	heights := make([]height, len(block)+1)
 	heights[0].reached = true
 	reach := func(at int, further int, h height) bool {
-		if further < 0 || further > len(block)-at {
+		if further > len(block)-at {
 			return false
 		}
 		to := &heights[at+further]

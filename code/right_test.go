@@ -143,7 +143,7 @@ func TestRightBlocks(t *testing.T) {
 	unbalanced := blocks(1, 1)
 	unbalanced.Blocks[1] = nil
 	sizes[7] = 21
-	for i, c := range []api.Code{{}, {Params: []string{""}}, {Blocks: [][]api.Ins{{lay}}}, one(), blocks(401), blocks(200, 201), blocks(sizes...), params(""), params("", "", ""), params("x", ""), params("", ","), params("", "x,"), params("", " x"), params("", "x;y"), params("", strings.Repeat("n", 31)), params("", strings.Repeat("x,", 400)+"x"), params("", strings.Repeat(",", 100000)), back, far, unbalanced} {
+	for i, c := range []api.Code{{}, {Params: []string{""}}, {Blocks: [][]api.Ins{{lay}}}, one(), blocks(401), blocks(200, 201), blocks(sizes...), params(""), params("", "", ""), params("x", ""), params("", ","), params("", "x,"), params("", " x"), params("", "x;y"), params("", strings.Repeat("n", 31)), params("", strings.Repeat("x,", 400)+"x"), params("", strings.Repeat(",", 100000)), back, far, unbalanced, one(ins(api.InCall, -1, 0, "F"), add), one(api.Ins{Op: api.InFunc}), one(api.Ins{Op: api.InFunc, A: -1})} {
 		if code.Right(c) {
 			t.Errorf("Right of wrong code %d is true", i)
 		}

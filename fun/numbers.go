@@ -46,9 +46,10 @@ func trunc(d api.Dec) api.Dec {
 	return api.Dec{M: -d.M, E: d.E}
 }
 
+// rounded leaves it to dec to refuse whole numbers that are too great.
 func rounded(l ...api.Val) api.Val {
-	digits, ok := whole(given(l, 1, 0), -api.MaxTen)
-	if !ok || digits > api.MaxTen {
+	digits, ok := plain.Whole(given(l, 1, 0))
+	if !ok {
 		return plain.Fault(api.VNum)
 	}
 	return plain.Decimal(dec.Round(l[0].N, digits))
@@ -75,11 +76,7 @@ func quotient(l ...api.Val) api.Val {
 }
 
 func power(l ...api.Val) api.Val {
-	n, ok := whole(l[1].N, -100)
-	if !ok || n > 100 {
-		return plain.Fault(api.VNum)
-	}
-	return plain.Decimal(dec.Power(l[0].N, n))
+	return plain.Power(l[0].N, l[1].N)
 }
 
 func factorial(l ...api.Val) api.Val {
@@ -103,9 +100,10 @@ func parity(even bool) func(l ...api.Val) api.Val {
 	}
 }
 
+// char leaves it to text to refuse a sign that no text has.
 func char(l ...api.Val) api.Val {
 	n, ok := whole(l[0].N, ' ')
-	if !ok || n > 0x10ffff || n == 0x7f || n >= 0xd800 && n <= 0xdfff {
+	if !ok || n > 0x10ffff || n >= 0xd800 && n <= 0xdfff {
 		return plain.Fault(api.VValue)
 	}
 	return text(string(rune(n)))

@@ -104,7 +104,7 @@ func sequence(l ...api.Val) api.Val {
 	}
 	rows, some := whole(told[0].N, 1)
 	cols, more := whole(given(told, 1, 1), 1)
-	if !some || !more || rows > api.MaxArray || cols > api.MaxArray/rows {
+	if !some || !more || cols > api.MaxArray/rows {
 		return plain.Fault(api.VValue)
 	}
 	first, step := given(told, 2, 1), given(told, 3, 1)
@@ -155,12 +155,13 @@ func sort(l ...api.Val) api.Val {
 	return laid(list)
 }
 
+// filter leaves it to val.ToBool to refuse a function as second value.
 func filter(l ...api.Val) api.Val {
 	if isFault(l[0]) {
 		return l[0]
 	}
 	list, asked := lines(l[0]), lines(l[1])
-	if l[0].Kind == api.Func || l[1].Kind == api.Func || len(asked[0]) != 1 || len(asked) != len(list) {
+	if l[0].Kind == api.Func || len(asked[0]) != 1 || len(asked) != len(list) {
 		return plain.Fault(api.VValue)
 	}
 	var kept [][]api.Val

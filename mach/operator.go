@@ -87,16 +87,7 @@ func reckoned(op string, a api.Val, b api.Val) api.Val {
 	case "/":
 		return plain.Decimal(dec.Div(a.N, b.N))
 	}
-	return power(a.N, b.N)
-}
-
-// power leaves it to dec to refuse whole numbers that are too great.
-func power(a api.Dec, b api.Dec) api.Val {
-	n, ok := plain.Whole(b)
-	if !ok {
-		return plain.Fault(api.VNum)
-	}
-	return plain.Decimal(dec.Power(a, n))
+	return plain.Power(a.N, b.N)
 }
 
 // beside is what an empty value counts as beside another one.

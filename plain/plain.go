@@ -49,3 +49,12 @@ func Whole(d api.Dec) (int, bool) {
 	}
 	return n, true
 }
+
+// Power is a decimal to the power of another one, which has to be whole; dec itself refuses whole numbers that are too great.
+func Power(a api.Dec, b api.Dec) api.Val {
+	n, ok := Whole(b)
+	if !ok {
+		return Fault(api.VNum)
+	}
+	return Decimal(dec.Power(a, n))
+}

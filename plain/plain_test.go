@@ -40,3 +40,23 @@ func TestWhole(t *testing.T) {
 		}
 	}
 }
+
+// Powers are told as dec tells them, of whole numbers alone.
+func TestPower(t *testing.T) {
+	for _, c := range []struct {
+		a, b api.Dec
+		want api.Val
+	}{
+		{api.Dec{M: 2}, api.Dec{M: 1, E: 1}, num(1024)},
+		{api.Dec{M: 7}, api.Dec{}, num(1)},
+		{api.Dec{M: 1}, api.Dec{M: -1, E: 2}, num(1)},
+		{api.Dec{M: 1}, api.Dec{M: 101}, fault(api.VNum)},
+		{api.Dec{M: 4}, api.Dec{M: 5, E: -1}, fault(api.VNum)},
+		{api.Dec{M: 1, E: 9}, api.Dec{M: 3}, fault(api.VNum)},
+		{api.Dec{}, api.Dec{M: -1}, fault(api.VDiv)},
+	} {
+		if got := plain.Power(c.a, c.b); !val.Same(got, c.want) {
+			t.Errorf("Power(%v, %v): %+v; want %+v", c.a, c.b, got, c.want)
+		}
+	}
+}

@@ -39,7 +39,8 @@ func TestRight(t *testing.T) {
 
 // P3.1: Same goes through all fields, and all lists.
 func TestSame(t *testing.T) {
-	all := append(flat(rights()), wrongs()...)
+	right := flat(rights())
+	all := append(right[:len(right):len(right)], wrongs()...)
 	for i, v := range all {
 		if !val.Same(v, spare(v)) || !val.Same(spare(v), v) {
 			t.Errorf("%+v is not the same as itself", v)
@@ -49,8 +50,8 @@ func TestSame(t *testing.T) {
 				t.Errorf("Same(%+v, %+v) is true", v, x)
 			}
 		}
-		for _, x := range flat(rights())[:min(i, len(flat(rights())))] {
-			if i < len(flat(rights())) && (val.Same(v, x) || val.Same(x, v)) {
+		for _, x := range right[:min(i, len(right))] {
+			if i < len(right) && (val.Same(v, x) || val.Same(x, v)) {
 				t.Errorf("Same(%+v, %+v) is true", v, x)
 			}
 		}
