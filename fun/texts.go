@@ -79,9 +79,6 @@ func repeat(l ...api.Val) api.Val {
 	if !ok || len(l[0].S)*n > api.MaxText {
 		return plain.Fault(api.VValue)
 	}
-	if l[0].S == "" {
-		return text("")
-	}
 	return text(strings.Repeat(l[0].S, n))
 }
 

@@ -88,6 +88,8 @@ func TestOperators(t *testing.T) {
 	f := frame(t, "A1:999999999999999000000000|B1:-999999999999999000000000|C1:'"+most+"|D1:'"+most[:50]+"|E1:'"+most[:51]+"|F1:'|G1:0")
 	checks(t, f, `
 		1+2*3 => 7
+		ISERROR(C1&E1) => TRUE @ 0!C1 0!E1
+		(C1&E1)="" => #VALUE! @ 0!C1 0!E1
 		-2^2 => 4
 		2^3^2 => 64
 		50% => 0.5
@@ -429,6 +431,7 @@ func TestLimits(t *testing.T) {
 		LET(f,LAMBDA(n,IF(n<1,A1,f(n-1)+f(n-1))),IFERROR(f(20),1)) => #NUM! @ 0!A1
 		LET(f,LAMBDA(x,f(x)),f(1)) => #NUM!
 		LET(f,LAMBDA(x,f(x)),IFERROR(f(1),5)) => 5
+		LET(a,SEQUENCE(20,20),f,LAMBDA(x,SUM(a)+x),f(1)) => 80201
 	`)
 	for n := 37; n <= 40; n++ {
 		let := api.Node{Kind: api.NLet}
