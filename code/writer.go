@@ -97,7 +97,7 @@ func (w *writer) name(n api.Node) {
 // get lays what is kept under a name, as that was written where it became known; false, if it is not known.
 func (w *writer) get(name string) bool {
 	for i := len(w.known) - 1; i >= 0; i-- {
-		if isAlike(w.known[i], name) {
+		if letters.Alike(w.known[i], name) {
 			w.add(api.Ins{Op: api.InGet, S: w.known[i]})
 			return true
 		}
@@ -198,17 +198,13 @@ func (w *writer) named(n api.Node, own string) {
 func (w *writer) found(own string) []string {
 	var list []string
 	for i, name := range w.known {
-		hidden := isAlike(name, own)
+		hidden := letters.Alike(name, own)
 		for _, later := range w.known[i+1:] {
-			hidden = hidden || isAlike(name, later)
+			hidden = hidden || letters.Alike(name, later)
 		}
 		if !hidden {
 			list = append(list, name)
 		}
 	}
 	return list
-}
-
-func isAlike(a string, b string) bool {
-	return letters.Small(a) == letters.Small(b)
 }

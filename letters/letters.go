@@ -43,6 +43,19 @@ func Small(s string) string {
 	return string(b)
 }
 
+// Alike says whether two texts are the same, but for great and small letters.
+func Alike(a string, b string) bool {
+	if len(a) != len(b) {
+		return false
+	}
+	for i := range len(a) {
+		if SmallByte(a[i]) != SmallByte(b[i]) {
+			return false
+		}
+	}
+	return true
+}
+
 // SmallByte is the small letter of a great one, and any other byte itself.
 func SmallByte(c byte) byte {
 	if c >= 'A' && c <= 'Z' {

@@ -43,3 +43,15 @@ func TestBytes(t *testing.T) {
 		}
 	}
 }
+
+// Texts are alike, if small letters in place of great ones make them the same.
+func TestAlike(t *testing.T) {
+	some := []string{"", "a", "A", "b", "ab", "aB", "AB", "abc", "é", "É", "@", "`", "[", "{", "Z", "z", "\xff", "k", "\u212a", " ", "a "}
+	for _, a := range some {
+		for _, b := range some {
+			if letters.Alike(a, b) != (letters.Small(a) == letters.Small(b)) {
+				t.Errorf("Alike(%q, %q) is %v", a, b, letters.Alike(a, b))
+			}
+		}
+	}
+}

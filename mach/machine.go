@@ -78,8 +78,7 @@ func (m *machine) sheet(name string) int {
 	if name == "" {
 		return m.frame.Sheet
 	}
-	folded := letters.Small(name)
-	return slices.IndexFunc(m.frame.Sheets, func(s string) bool { return letters.Small(s) == folded })
+	return slices.IndexFunc(m.frame.Sheets, func(s string) bool { return letters.Alike(s, name) })
 }
 
 func (m *machine) shown(at api.At) api.Val {
