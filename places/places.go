@@ -3,6 +3,7 @@ package places
 
 import (
 	"cmp"
+	"iter"
 
 	"tabula/api"
 )
@@ -10,6 +11,19 @@ import (
 // Compare is -1, 0 or 1, as a stands ahead of b, is b, or stands behind it.
 func Compare(a api.At, b api.At) int {
 	return cmp.Or(cmp.Compare(a.Sheet, b.Sheet), cmp.Compare(a.Row, b.Row), cmp.Compare(a.Col, b.Col))
+}
+
+// In goes through the places of an area, in order.
+func In(a api.Area) iter.Seq[api.At] {
+	return func(yield func(api.At) bool) {
+		for row := range a.Rows {
+			for col := range a.Cols {
+				if !yield(api.At{Sheet: a.Sheet, Row: a.Row + row, Col: a.Col + col}) {
+					return
+				}
+			}
+		}
+	}
 }
 
 // OfCell is the area of one place.

@@ -2,6 +2,7 @@ package places_test
 
 import (
 	"math"
+	"slices"
 	"testing"
 
 	"tabula/api"
@@ -24,6 +25,23 @@ func TestCompare(t *testing.T) {
 				t.Errorf("Compare(%+v, %+v): %d", a, b, c)
 			}
 		}
+	}
+}
+
+// The places of an area come in order, and may be left early.
+func TestIn(t *testing.T) {
+	a := api.Area{Sheet: 3, Row: 1, Col: 2, Rows: 2, Cols: 3}
+	want := []api.At{{Sheet: 3, Row: 1, Col: 2}, {Sheet: 3, Row: 1, Col: 3}, {Sheet: 3, Row: 1, Col: 4}, {Sheet: 3, Row: 2, Col: 2}, {Sheet: 3, Row: 2, Col: 3}, {Sheet: 3, Row: 2, Col: 4}}
+	if got := slices.Collect(places.In(a)); !slices.Equal(got, want) {
+		t.Errorf("In: %v", got)
+	}
+	for at := range places.In(a) {
+		if at.Row == 1 && at.Col == 3 {
+			break
+		}
+	}
+	if got := slices.Collect(places.In(api.Area{Rows: -1, Cols: 2})); len(got) > 0 {
+		t.Errorf("In of no rows: %v", got)
 	}
 }
 
