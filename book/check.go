@@ -1,14 +1,11 @@
 package book
 
 import (
-	"strings"
-
 	"tabula/api"
 	"tabula/letters"
 	"tabula/places"
 	"tabula/ref"
 	"tabula/right"
-	"tabula/tree"
 )
 
 // Check is the first error of a workbook, and where it is; OK, if it is right.
@@ -81,19 +78,15 @@ func wrongCell(cells []api.Cell) (api.Cell, bool) {
 
 func isNameOf(b api.Book) func(api.Name) bool {
 	return func(n api.Name) bool {
-		if !right.Name(n.Name) || n.Sheet < -1 || n.Sheet >= len(b.Sheets) || !right.Formula(n.Input) {
+		formula, ok := right.Tree(n.Input)
+		if !ok || !right.Name(n.Name) || n.Sheet < -1 || n.Sheet >= len(b.Sheets) {
 			return false
 		}
-		return n.Sheet >= 0 || namesSheets(n.Input)
+		return n.Sheet >= 0 || saysSheets(formula)
 	}
 }
 
-// namesSheets says whether all references of a right formula say on which sheet they are: a name of all sheets has no sheet of its own.
-func namesSheets(formula string) bool {
-	n, _, _ := tree.Read(strings.TrimPrefix(formula, "="))
-	return saysSheets(n)
-}
-
+// saysSheets says whether all references of a formula say on which sheet they are: a name of all sheets has no sheet of its own.
 func saysSheets(n api.Node) bool {
 	isRead := n.Kind == api.NRef || n.Kind == api.NRange
 	if isRead && !n.Ref.Bad && n.Ref.Sheet == "" {

@@ -38,12 +38,18 @@ func Name(s string) bool {
 
 // Formula says whether s is an equals sign, and a formula behind it.
 func Formula(s string) bool {
+	_, ok := Tree(s)
+	return ok
+}
+
+// Tree is that of a formula with its equals sign; false, if it is not right.
+func Tree(s string) (api.Node, bool) {
 	rest, found := strings.CutPrefix(s, "=")
 	if !found || len(s) > api.MaxInput {
-		return false
+		return api.Node{}, false
 	}
-	_, _, err := tree.Read(rest)
-	return err == api.OK
+	n, _, err := tree.Read(rest)
+	return n, err == api.OK
 }
 
 // Input says whether s may be put into a cell, and is not empty.
