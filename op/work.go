@@ -5,6 +5,7 @@ import (
 
 	"tabula/api"
 	"tabula/book"
+	"tabula/edits"
 	"tabula/fresh"
 	"tabula/letters"
 	"tabula/shift"
@@ -50,29 +51,9 @@ func (w *work) set() api.Errno {
 }
 
 func (w *work) shift() api.Errno {
-	b, err := shift.Book(w.book, edit(w.Op, w.book.Sheets[w.Sheet].Name))
+	b, err := shift.Book(w.book, edits.Of(w.Op, w.book.Sheets[w.Sheet].Name))
 	w.book = b
 	return err
-}
-
-// edit is the structural edit of an operation, of a sheet of that name.
-func edit(o api.Op, sheet string) api.Shift {
-	kinds := map[int]int{
-		api.OpRowsIn:   api.ShRowsIn,
-		api.OpRowsOut:  api.ShRowsOut,
-		api.OpColsIn:   api.ShColsIn,
-		api.OpColsOut:  api.ShColsOut,
-		api.OpSheetOut: api.ShGone,
-		api.OpRename:   api.ShRename,
-	}
-	s := api.Shift{Kind: kinds[o.Kind], Sheet: sheet, N: o.N, Name: o.Name}
-	switch o.Kind {
-	case api.OpRowsIn, api.OpRowsOut:
-		s.At = o.Row
-	case api.OpColsIn, api.OpColsOut:
-		s.At = o.Col
-	}
-	return s
 }
 
 func (w *work) sheetIn() api.Errno {
