@@ -19,3 +19,18 @@ func Book(b api.Book) api.Book {
 	}
 	return c
 }
+
+// Op is a copy of an operation.
+func Op(o api.Op) api.Op {
+	o.Table.Cols = List(o.Table.Cols)
+	return o
+}
+
+// Log is a copy of a log.
+func Log(l []api.Entry) []api.Entry {
+	c := List(l)
+	for i := range c {
+		c[i].Op, c[i].Again = Op(c[i].Op), Op(c[i].Again)
+	}
+	return c
+}

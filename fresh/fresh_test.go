@@ -40,3 +40,26 @@ func TestBook(t *testing.T) {
 		t.Errorf("a copy of nothing: %+v", c)
 	}
 }
+
+func TestLog(t *testing.T) {
+	op := func() api.Op {
+		return api.Op{Kind: 1, Table: api.Table{Cols: append(make([]string, 0, 9), "a")}}
+	}
+	some := func() []api.Entry {
+		return append(make([]api.Entry, 0, 9), api.Entry{Author: 1, Op: op()}, api.Entry{Off: true, Op: op(), Again: op()})
+	}
+	l := some()
+	c := fresh.Log(l)
+	if !reflect.DeepEqual(c, some()) {
+		t.Errorf("a copy is another one: %+v", c)
+	}
+	c[0].Author, c[0].Op.Table.Cols[0], c[1].Op.Table.Cols[0], c[1].Again.Table.Cols[0] = 2, "b", "b", "b"
+	_ = append(c, api.Entry{Author: 3})
+	_ = append(c[1].Again.Table.Cols, "c")
+	if !reflect.DeepEqual(l, some()) || l[:3][2].Author != 0 || l[1].Again.Table.Cols[:2][1] != "" {
+		t.Errorf("what was copied is another one: %+v", l)
+	}
+	if fresh.Log(nil) != nil || fresh.Op(api.Op{}).Table.Cols != nil {
+		t.Error("a copy of nothing is something")
+	}
+}
