@@ -20,9 +20,9 @@ func tableOf(rows [][]api.Val) (api.Val, api.Errno) {
 	return val.Make(len(rows), len(rows[0]), slices.Concat(rows...))
 }
 
-// isColumn says whether a value is a table that has a column of that number.
+// isColumn says whether a value is a table that has a column of that number. Of what is right tables alone have columns.
 func isColumn(v api.Val, col int) bool {
-	return col >= 0 && col < v.Cols && v.Kind == api.Array && val.Right(v)
+	return col >= 0 && col < v.Cols && val.Right(v)
 }
 
 func isPlain(v api.Val) bool {

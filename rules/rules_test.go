@@ -2,6 +2,7 @@ package rules_test
 
 import (
 	"slices"
+	"strings"
 	"testing"
 
 	"tabula/api"
@@ -49,6 +50,8 @@ func TestStyles(t *testing.T) {
 		{[]string{"A1:A3 5 =above(A1,rate-1)"}, "A2 5 | A3 5"},
 		{[]string{"A1:A3 5 =A1=SUM(Tab[a])"}, "A3 5"},
 		{[]string{"A1:A3 5 =much", "A1:A3 6 =-much", "A1:A3 7 =much+0"}, "A1 5 | A2 5 | A3 5"},
+		{[]string{"A1:A2 5 =IF(TRUE,TRUE,SUM(f" + strings.Repeat(",f", 18) + "))"}, "A1 5 | A2 5"},
+		{[]string{"A1:A2 5 =IF(TRUE,TRUE,SUM(f" + strings.Repeat(",f", 19) + "))"}, ""},
 		{[]string{"A1:A3 5 =T!A1=5"}, "A1 5"},
 		{[]string{"T!A1:A3 5 =A1=5", "A3:A3 7 =TRUE", "A1:A1 9 =TRUE"}, "A1 9 | A3 7 | T!A1 5"},
 		{[]string{"T!A1:A3 5 =S!A1=2"}, "T!A2 5"},

@@ -32,6 +32,7 @@ func sheets(t *testing.T, cells string) api.Book {
 			{Name: "own", Sheet: 0, Input: "=A1>1"},
 			{Name: "own", Sheet: 1, Input: "=B2>1"},
 			{Name: "above", Sheet: -1, Input: "=LAMBDA(x,y,x>y)"},
+			{Name: "f", Sheet: -1, Input: "=LAMBDA(1)"},
 			{Name: "much", Sheet: -1, Input: "=" + strings.Repeat("-", 19) + "1"},
 		},
 		Tables: []api.Table{{Name: "Tab", Sheet: 1, Row: 1, Col: 3, Rows: 2, Cols: []string{"a", "b"}}},

@@ -86,17 +86,15 @@ type reader struct {
 }
 
 // read is the entry that was written so; false, if none was.
-func read(s string) (e api.Entry, ok bool) {
+func read(s string) (api.Entry, bool) {
 	defer func() {
 		left := recover()
-		if _, isBroken := left.(broken); isBroken {
-			e, ok = api.Entry{}, false
-		} else if left != nil {
+		if _, isBroken := left.(broken); left != nil && !isBroken {
 			panic(left)
 		}
 	}()
 	r := reader{rest{s}}
-	e = r.entry()
+	e := r.entry()
 	return e, isAction(e) && written(e) == s
 }
 
